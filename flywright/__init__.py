@@ -1,0 +1,1 @@
+"""Flywright: the machines of a stage, cues, and what keeps them apart."""

@@ -1,0 +1,53 @@
+"""What several tests need: things that are no numbers, and how a refusal is looked at."""
+
+from flywright import errors
+
+KINDS = [
+    errors.BadNumber, errors.BadName, errors.BadStage, errors.BadSheet, errors.TooLong, errors.Busy,
+    errors.TooNear, errors.Stopped, errors.NotStopped, errors.Moving, errors.NoCue, errors.BadRow,
+]
+
+
+class Odd:
+    """A thing that can neither be compared nor hashed nor counted."""
+
+    __hash__ = None
+
+    def __eq__(self, other):
+        raise AssertionError("compared")
+
+    def __lt__(self, other):
+        raise AssertionError("compared")
+
+    __le__ = __gt__ = __ge__ = __ne__ = __lt__
+
+    def __len__(self):
+        raise AssertionError("counted")
+
+    def __bool__(self):
+        raise AssertionError("asked for its truth")
+
+
+NO_NUMBERS = [
+    True, False, None, "", "5", "five", b"5", [], [5], (), (5,), {}, {5: 5}, {5}, frozenset([5]), object(), Odd(),
+    int, len, range(5), Ellipsis, lambda: 5,
+]
+
+
+def around(least, most):
+    """What isn't a number from the least to the most: just beyond, far beyond, and no number at all."""
+    return [least - 1, most + 1, least - 10 ** 30, most + 10 ** 30] + NO_NUMBERS
+
+
+def need_refused(test, kind, act, *told):
+    """That it is refused with just this kind of error."""
+    with test.assertRaises(errors.StageError) as caught:
+        act(*told)
+    test.assertIsInstance(caught.exception, ValueError)
+    test.assertEqual([kind], [other for other in KINDS if isinstance(caught.exception, other)])
+    return caught.exception
+
+
+def with_one(told, at, thing):
+    """The arguments with another thing at one place."""
+    return [*told[:at], thing, *told[at + 1:]]

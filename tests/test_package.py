@@ -1,0 +1,110 @@
+"""That the package has the interface's names where they belong, and keeps to the plainest rules of its language."""
+
+import ast
+import inspect
+import os
+import re
+import unittest
+
+from flywright import errors, machines, steps
+
+FOLDER = os.path.dirname(os.path.abspath(errors.__file__))
+METHODS = ["__init__", "kind", "lane", "wide", "offset", "boxes", "taken", "words"]
+COMMON = ["self", "name", "least", "greatest", "pace", "gain", "place"]
+ARGUMENTS = {
+    machines.Machine: COMMON,
+    machines.Line: COMMON + ["lane", "at", "wide", "tall"],
+    machines.Wagon: COMMON + ["lane", "wide", "tall"],
+    machines.Trap: COMMON + ["lane", "at", "wide"],
+    machines.Floor: COMMON + ["lane", "walls"],
+}
+BARRED = re.compile(
+    r"\b(type|typing|typing_extensions|enum|Enum|IntEnum|StrEnum|Flag|IntFlag|Generic|Protocol|ABC|ABCMeta|namedtuple"
+    r"|NamedTuple|TypedDict|TYPE_CHECKING|abstractmethod)\b|dataclass|overload|contextmanager"
+)
+
+
+def arguments(made):
+    return list(inspect.signature(made).parameters)
+
+
+def sources():
+    """The text of each file of the package, by its name."""
+    texts = {}
+    for name in sorted(os.listdir(FOLDER)):
+        if name != "__pycache__":
+            with open(os.path.join(FOLDER, name), encoding="utf-8") as file:
+                texts[name] = file.read()
+    return texts
+
+
+class InterfaceTest(unittest.TestCase):
+    def test_functions_of_steps(self):
+        wanted = {
+            "is_whole": ["thing", "least", "most"], "steps_of": ["distance", "pace", "gain"],
+            "reach": ["many", "pace", "gain"], "braked": ["step", "gain"],
+        }
+        for name in wanted:
+            self.assertEqual(wanted[name], arguments(getattr(steps, name)))
+            self.assertEqual("flywright.steps", getattr(steps, name).__module__)
+
+    def test_arguments_of_machines(self):
+        for kind in ARGUMENTS:
+            self.assertEqual("flywright.machines", kind.__module__)
+            self.assertEqual(ARGUMENTS[kind], arguments(kind.__init__))
+            self.assertEqual(["self", "place"], arguments(kind.boxes))
+            self.assertEqual(["self", "ahead", "place"], arguments(kind.taken))
+
+    def test_methods_stand_in_each_class_itself(self):
+        for kind in ARGUMENTS:
+            for name in METHODS:
+                self.assertIn(name, vars(kind), kind)
+
+
+class LanguageTest(unittest.TestCase):
+    def test_files(self):
+        for name in sources():
+            self.assertRegex(name, r"^([a-z][a-z0-9_]*|__init__)\.py$")
+
+    def test_size(self):
+        for name, text in sources().items():
+            self.assertLessEqual(len(text.split("\n")), 400, name)
+            for node in ast.walk(ast.parse(text)):
+                if isinstance(node, ast.FunctionDef):
+                    self.assertLessEqual(node.end_lineno - node.lineno + 1, 40, (name, node.name))
+            for line in text.split("\n"):
+                self.assertLessEqual(len(line), 120, (name, line))
+
+    def test_characters_and_words(self):
+        for name, text in sources().items():
+            self.assertRegex(text, r"\A[ -~\n]*\Z", name)
+            self.assertIsNone(BARRED.search(text), name)
+
+    def test_imports_name_the_file_that_defines(self):
+        for name, text in sources().items():
+            for node in ast.walk(ast.parse(text)):
+                self.assertNotIsInstance(node, ast.Import, name)
+                if isinstance(node, ast.ImportFrom):
+                    self.need_defined(node)
+
+    def need_defined(self, node):
+        self.assertEqual("flywright.", node.module[:10])
+        tree = ast.parse(sources()[node.module[10:] + ".py"])
+        defined = [row.name for row in tree.body if isinstance(row, (ast.FunctionDef, ast.ClassDef))]
+        defined += [row.targets[0].id for row in tree.body if isinstance(row, ast.Assign)]
+        for alias in node.names:
+            self.assertIn(alias.name, defined)
+
+    def test_no_name_is_a_method_here_and_an_attribute_there(self):
+        methods, attributes = [], []
+        for text in sources().values():
+            for node in ast.walk(ast.parse(text)):
+                if isinstance(node, ast.ClassDef):
+                    methods += [row.name for row in node.body if isinstance(row, ast.FunctionDef)]
+                if isinstance(node, ast.Attribute) and isinstance(node.ctx, ast.Store):
+                    attributes.append(node.attr)
+        self.assertEqual(set(), set(methods) & set(attributes))
+
+
+if __name__ == "__main__":
+    unittest.main()
