@@ -34,7 +34,7 @@ def need_size(size, what):
 
 
 def copied_walls(walls):
-    """The walls of a floor as a tuple, on which no change of the list tells; refuses what is none."""
+    """The walls of a floor as a tuple, which no later change of the list reaches; refuses what is none."""
     if not isinstance(walls, list) or not 1 <= len(walls) <= MOST_WALLS:
         raise BadNumber(f"walls must be a list of 1 to {MOST_WALLS}")
     return tuple([copied_wall(wall) for wall in walls])
@@ -52,7 +52,7 @@ def copied_wall(wall):
 
 
 class Machine:
-    """What all machines have. It isn't made by itself: a kind below tells what stands open here."""
+    """What all machines have. It isn't made by itself: each kind below tells what is missing here."""
 
     def __init__(self, name, least, greatest, pace, gain, place):
         if not is_name(name):

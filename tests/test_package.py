@@ -5,6 +5,7 @@ import inspect
 import os
 import re
 import unittest
+import warnings
 
 from flywright import errors, machines, steps
 
@@ -79,6 +80,12 @@ class LanguageTest(unittest.TestCase):
         for name, text in sources().items():
             self.assertRegex(text, r"\A[ -~\n]*\Z", name)
             self.assertIsNone(BARRED.search(text), name)
+
+    def test_no_warnings(self):
+        for name, text in sources().items():
+            with warnings.catch_warnings():
+                warnings.simplefilter("error")
+                compile(text, name, "exec")
 
     def test_imports_name_the_file_that_defines(self):
         for name, text in sources().items():
