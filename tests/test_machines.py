@@ -4,10 +4,8 @@ import unittest
 
 from flywright.errors import BadName, BadNumber
 from flywright.machines import Floor, Line, Machine, Trap, Wagon
-from helpers import NO_NUMBERS, Odd, around, need_refused, with_one
+from helpers import BILLION, MILLION, NO_NAMES, NO_NUMBERS, Odd, around, need_refused, with_one
 
-BILLION = 10 ** 9
-MILLION = 10 ** 6
 KINDS = [Line, Wagon, Trap, Floor]
 DRIVE = ["cloth", -20, 50, 7, 3, 10]
 WALLS = [(0, 10, 5), (719, 4, 8), (3, 12, 1), (90, 2, 7)]
@@ -16,10 +14,6 @@ TAILS = {Line: [2, -4, 12, 3], Wagon: [5, 6, 9], Trap: [0, 15, 8], Floor: [9, WA
 # The least and the most of each number that a kind is told behind what all are told.
 LANE, AT, SIZE = (0, 9), (-BILLION, BILLION), (1, MILLION)
 TAIL_BOUNDS = {Line: [LANE, AT, SIZE, SIZE], Wagon: [LANE, SIZE, SIZE], Trap: [LANE, AT, SIZE], Floor: [LANE]}
-NO_NAMES = [
-    "", "abcdefghi", "A", "aB", "a1", "1", "a b", " a", "a ", "a-b", "a_b", "a\n", "`", "{", "a" * 4000,
-    None, True, False, 0, 5, b"a", [], ["a"], ("a",), {}, {"a": 1}, {"a"}, object(), Odd(), str,
-]
 
 
 def told(kind):

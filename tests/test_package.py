@@ -7,7 +7,7 @@ import re
 import unittest
 import warnings
 
-from flywright import errors, machines, steps
+from flywright import errors, machines, sheets, stage, stagetext, steps
 
 FOLDER = os.path.dirname(os.path.abspath(errors.__file__))
 METHODS = ["__init__", "kind", "lane", "wide", "offset", "boxes", "taken", "words"]
@@ -60,6 +60,31 @@ class InterfaceTest(unittest.TestCase):
         for kind in ARGUMENTS:
             for name in METHODS:
                 self.assertIn(name, vars(kind), kind)
+
+
+    def test_functions_of_texts(self):
+        for module, name, wanted in [(stagetext, "stage_text", ["stage"]), (stagetext, "read_stage", ["text"]),
+                                     (sheets, "read_sheet", ["text"])]:
+            self.assertEqual(wanted, arguments(getattr(module, name)))
+            self.assertEqual(module.__name__, getattr(module, name).__module__)
+
+    def test_methods_of_stage(self):
+        self.need_methods(stage, stage.Stage, {
+            "__init__": ["room", "rings", "machines"], "rings": [], "machines": [], "machine": ["name"],
+            "is_near": ["one", "other", "place", "goal"], "first_near": ["places", "ahead"],
+        })
+        self.assertIsNone(inspect.signature(stage.Stage.first_near).parameters["ahead"].default)
+
+    def test_methods_of_sheet(self):
+        self.need_methods(sheets, sheets.Sheet, {
+            "__init__": ["cues"], "cues": [], "names": [], "moves": ["name"], "followers": ["name"],
+            "fits": ["stage"], "text": [],
+        })
+
+    def need_methods(self, module, kind, wanted):
+        self.assertEqual(module.__name__, kind.__module__)
+        for name in wanted:
+            self.assertEqual(["self"] + wanted[name], arguments(vars(kind)[name]))
 
 
 class LanguageTest(unittest.TestCase):
