@@ -91,11 +91,17 @@ class Machine:
 
     def taken(self, ahead, place):
         """What it takes in a tick between two places."""
-        raise NotImplementedError("a kind of machine tells it")
+        self.need_within(ahead)
+        self.need_within(place)
+        return self.swept(ahead, place)
 
     def words(self):
         """Its row in the text of a stage; here, what the rows of all kinds begin with."""
         return f"{self.kind()} {self.name} {self.least} {self.greatest} {self.pace} {self.gain} {self.place}"
+
+    def swept(self, ahead, place):
+        """What it takes in a tick between two places that are known to be numbers, its bounds aside."""
+        raise NotImplementedError("a kind of machine tells it")
 
     def need_within(self, place):
         """Refuses what is no place within its bounds."""
@@ -134,12 +140,15 @@ class Line(Machine):
     def taken(self, ahead, place):
         self.need_within(ahead)
         self.need_within(place)
-        tall = self.tall_told + abs(place - ahead)
-        return [(self.lane_told, self.at_told, self.wide_told, min(ahead, place), tall)]
+        return self.swept(ahead, place)
 
     def words(self):
         begun = super().words()
         return f"{begun} {self.lane_told} {self.at_told} {self.wide_told} {self.tall_told}"
+
+    def swept(self, ahead, place):
+        tall = self.tall_told + abs(place - ahead)
+        return [(self.lane_told, self.at_told, self.wide_told, min(ahead, place), tall)]
 
 
 class Wagon(Machine):
@@ -172,12 +181,15 @@ class Wagon(Machine):
     def taken(self, ahead, place):
         self.need_within(ahead)
         self.need_within(place)
-        wide = self.wide_told + abs(place - ahead)
-        return [(self.lane_told, min(ahead, place), wide, 0, self.tall_told)]
+        return self.swept(ahead, place)
 
     def words(self):
         begun = super().words()
         return f"{begun} {self.lane_told} {self.wide_told} {self.tall_told}"
+
+    def swept(self, ahead, place):
+        wide = self.wide_told + abs(place - ahead)
+        return [(self.lane_told, min(ahead, place), wide, 0, self.tall_told)]
 
 
 class Trap(Machine):
@@ -210,13 +222,16 @@ class Trap(Machine):
     def taken(self, ahead, place):
         self.need_within(ahead)
         self.need_within(place)
-        if min(ahead, place) >= 0:
-            return []
-        return [(self.lane_told, self.at_told, self.wide_told, 0, 1)]
+        return self.swept(ahead, place)
 
     def words(self):
         begun = super().words()
         return f"{begun} {self.lane_told} {self.at_told} {self.wide_told}"
+
+    def swept(self, ahead, place):
+        if min(ahead, place) >= 0:
+            return []
+        return [(self.lane_told, self.at_told, self.wide_told, 0, 1)]
 
 
 class Floor(Machine):
@@ -246,11 +261,14 @@ class Floor(Machine):
     def taken(self, ahead, place):
         self.need_within(ahead)
         self.need_within(place)
-        low = min(ahead, place)
-        way = abs(place - ahead)
-        return [(self.lane_told, offset + low, wide + way, 0, tall) for offset, wide, tall in self.walls]
+        return self.swept(ahead, place)
 
     def words(self):
         begun = super().words()
         walls = " ".join([f"{offset}:{wide}:{tall}" for offset, wide, tall in self.walls])
         return f"{begun} {self.lane_told} {walls}"
+
+    def swept(self, ahead, place):
+        low = min(ahead, place)
+        way = abs(place - ahead)
+        return [(self.lane_told, offset + low, wide + way, 0, tall) for offset, wide, tall in self.walls]

@@ -107,13 +107,18 @@ class Stage:
 
     def first_near(self, places, ahead=None):
         """The names of the first two machines that are too near at places, or in a tick from those ahead; or None."""
-        self.need_count(places)
-        # With no tick ahead nothing is swept: what is taken from a place to itself are the boxes there.
-        before = places if ahead is None else ahead
-        self.need_count(before)
+        self.need_places(places)
+        if ahead is None:
+            # With no tick ahead nothing is swept: what is taken from a place to itself are the boxes there.
+            return self.first_swept(places, places)
+        self.need_places(ahead)
+        return self.first_swept(ahead, places)
+
+    def first_swept(self, ahead, places):
+        """As first_near in a tick, of places that are known to be numbers, the machines' bounds aside."""
         taken = []
-        for machine, begun, place in zip(self.machines(), before, places):
-            taken.append((machine.kind(), machine.taken(begun, place)))
+        for machine, begun, place in zip(self.machines(), ahead, places):
+            taken.append((machine.kind(), machine.swept(begun, place)))
         names = list(self.by_name)
         # Nearness is mutual, so the others of the first one are all behind it.
         for at, one in enumerate(taken):
@@ -122,10 +127,12 @@ class Stage:
                     return (names[at], names[behind])
         return None
 
-    def need_count(self, places):
-        """Refuses what is no list of as many things as there are machines."""
+    def need_places(self, places):
+        """Refuses what is no list of a place within its bounds for each machine."""
         if not isinstance(places, list) or len(places) != len(self.by_name):
             raise BadNumber("places must be a list with one for each machine")
+        for machine, place in zip(self.machines(), places):
+            machine.need_within(place)
 
     def are_near(self, one, other):
         """Whether two machines, each told by its kind and its boxes, are too near."""

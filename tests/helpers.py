@@ -48,10 +48,10 @@ def around(least, most):
     return [least - 1, most + 1, least - 10 ** 30, most + 10 ** 30] + NO_NUMBERS
 
 
-def need_refused(test, kind, act, *told):
+def need_refused(test, kind, act, *told, **more):
     """That it is refused with just this kind of error."""
     with test.assertRaises(errors.StageError) as caught:
-        act(*told)
+        act(*told, **more)
     test.assertIsInstance(caught.exception, ValueError)
     test.assertEqual([kind], [other for other in KINDS if isinstance(caught.exception, other)])
     return caught.exception

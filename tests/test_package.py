@@ -7,7 +7,7 @@ import re
 import unittest
 import warnings
 
-from flywright import errors, machines, sheets, stage, stagetext, steps
+from flywright import desk, errors, machines, plans, safety, sheets, show, stage, stagetext, steps
 
 FOLDER = os.path.dirname(os.path.abspath(errors.__file__))
 METHODS = ["__init__", "kind", "lane", "wide", "offset", "boxes", "taken", "words"]
@@ -61,7 +61,6 @@ class InterfaceTest(unittest.TestCase):
             for name in METHODS:
                 self.assertIn(name, vars(kind), kind)
 
-
     def test_functions_of_texts(self):
         for module, name, wanted in [(stagetext, "stage_text", ["stage"]), (stagetext, "read_stage", ["text"]),
                                      (sheets, "read_sheet", ["text"])]:
@@ -80,6 +79,28 @@ class InterfaceTest(unittest.TestCase):
             "__init__": ["cues"], "cues": [], "names": [], "moves": ["name"], "followers": ["name"],
             "fits": ["stage"], "text": [],
         })
+
+    def test_methods_of_ways(self):
+        common = {"end": [], "at": ["tick"], "step_of": ["place", "tick"]}
+        self.need_methods(plans, plans.Way, {"__init__": ["stage"], **common})
+        self.need_methods(plans, plans.Back, {"__init__": ["stage", "book"], **common})
+        self.need_methods(plans, plans.Ways, {
+            "__init__": ["stage", "places"], **common, "adds": ["sheet", "cue", "tick"], "shown": [],
+            "goes_on": ["tick"],
+        })
+
+    def test_methods_of_show(self):
+        self.need_methods(show, show.Show, {
+            "__init__": ["stage", "sheet"], "clock": [], "go": [], "press": ["cue"], "stop": [], "go_on": [], "back": [],
+            "places": [], "is_still": [], "book": [],
+        })
+
+    def test_functions_of_safety_and_desk(self):
+        for module, name, wanted in [(safety, "need_free", ["way", "now"]), (safety, "stopped", ["way", "tick"]),
+                                     (desk, "answered", ["show", "line"]), (desk, "played", ["stage", "sheet", "lines"])]:
+            self.assertEqual(wanted, arguments(getattr(module, name)))
+            self.assertEqual(module.__name__, getattr(module, name).__module__)
+        self.assertEqual(0, inspect.signature(safety.need_free).parameters["now"].default)
 
     def need_methods(self, module, kind, wanted):
         self.assertEqual(module.__name__, kind.__module__)
