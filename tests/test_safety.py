@@ -301,6 +301,8 @@ class StopsTest(unittest.TestCase):
         # By itself it is free, with 9 between them at its end; a stop at tick 1 leads on by 9, 8 and so on.
         self.assertEqual((1, "a", "b"), near(self, Rows(stage, rows)))
         self.assertEqual([[10, 40], [19, 40], [27, 40]], stopped(Rows(stage, rows), 1)[:3])
+        # At tick 0 no step was taken, whatever came to these places.
+        self.assertEqual([[0, 40]], stopped(Rows(stage, rows), 0))
         # A stop at the very last tick counts too.
         self.assertEqual((1, "a", "b"), near(self, Rows(stage, [[0, 20], [9, 20]])))
         self.assertIsNone(need_free(Rows(stage, [[0, 20], [1, 20]])))
